@@ -1,0 +1,1 @@
+"""Hues for ways on lines, rings and trees."""
