@@ -2,6 +2,8 @@
 
 import random
 
+from tiehues.errors import TieError
+
 HUGE = 10 ** 29
 
 SMALL_NETS = [
@@ -92,3 +94,66 @@ def first_clash(net, ways, hues):
         (i, j) for j in range(len(ways)) for i in range(j) if hues[i] == hues[j] and rows[i] & rows[j]
     ]
     return min(wrong) if wrong else None
+
+
+def refusal(asked, *things):
+    """The refusal's name and its value, None where it has none; or nothing where there is an answer."""
+    try:
+        asked(*things)
+    except TieError as refused:
+        value = [getattr(refused, name) for name in ("at", "place", "row") if hasattr(refused, name)]
+        return (refused.__class__.__name__, *value)
+    return None
+
+
+def line_rows(ways):
+    """The ties of each way of a line."""
+    return [set(range(min(way), max(way))) for way in ways]
+
+
+def level_hues(level):
+    return [0] if level == 1 else [3 * level - 5, 3 * level - 4, 3 * level - 3]
+
+
+def pair_loads(crossing):
+    many, pairs = crossing
+    return [sum(tie in pair for pair in pairs) for tie in range(many)]
+
+
+def right_pairs(crossing, hues):
+    """Whether hues of a crossing are right, as point 13 tells it."""
+    pairs = crossing[1]
+    if len(hues) != len(pairs) or min(hues, default=0) < 0:
+        return False
+    return not any(
+        hues[i] == hues[j] and set(pairs[i]) & set(pairs[j]) for j in range(len(pairs)) for i in range(j)
+    )
+
+
+def drawn_pairs(many, count, seed, alone=True):
+    """Pairs of a crossing, drawn in a settled order; without those of one tie where they are not wanted."""
+    drawn = random.Random(seed)
+    pairs = [tuple(sorted(drawn.choices(range(many), k=2))) for turn in range(count)]
+    return [pair for pair in pairs if alone or pair[0] != pair[1]]
+
+
+def level_pairs(many, load, seed):
+    """Pairs of a crossing, drawn in a settled order, such that each tie has the same load."""
+    drawn = random.Random(seed)
+    left, pairs = [load] * many, []
+    while any(left):
+        open_ties = [tie for tie in range(many) if left[tie]]
+        ends = drawn.sample(open_ties, 2 if len(open_ties) > 1 and drawn.random() < 0.9 else 1)
+        for tie in ends:
+            left[tie] -= 1
+        pairs.append((min(ends), max(ends)))
+    drawn.shuffle(pairs)
+    return pairs
+
+
+WRONG_CROSSINGS = [
+    (-1, []), (61, []), (HUGE, []), (-HUGE, []), (-1, [(0, 0)]), (0, [(0, 0)]), (1, [(0, 1)]), (2, [(1, 0)]),
+    (2, [(0, 1), (0, 2)]), (2, [(2, 2)]), (3, [(-1, 1)]), (3, [(-1, -1)]), (3, [(-2, -1)]), (3, [(0, 1), (2, 1)]),
+    (60, [(0, 60)]), (60, [(60, 60)]), (61, [(0, 1)]), (3, [(0, HUGE)]), (3, [(-HUGE, 0)]), (3, [(HUGE, HUGE)]),
+    (3, [(0, 1)] * 61), (60, [(0, 0)] * 61), (13, [(0, 13)]), (3, [(0, 1)] * 59 + [(0, 3)]),
+]

@@ -24,6 +24,15 @@ BARRED_NAMES = set(
     " methodcaller os quit setattr super type vars sys".split()
 )
 DUNDERS = {"__init__", "__eq__", "__repr__", "__str__", "__len__"}
+METHODS = set(
+    "append clear copy count endswith extend find get index insert isalnum isalpha isdigit islower isspace isupper"
+    " items join keys ljust lower lstrip partition pop remove replace reverse rfind rjust rpartition rsplit rstrip"
+    " setdefault split splitlines startswith strip update upper values zfill bit_length add discard sort".split()
+)
+VALUE_NAMES = {name for kind in (str, int, list, dict, set, bytes, tuple) for name in dir(kind)}
+AT_ONCE = {"zip", "enumerate", "reversed", "range"}
+VIEWS = {"items", "keys", "values"}
+ITERATING = set("list tuple dict sorted sum any all enumerate zip bytes min max".split())
 LEFT_OUT = (
     ast.Global, ast.AsyncFunctionDef, ast.AsyncFor, ast.AsyncWith, ast.Await, ast.Import, ast.Div, ast.MatMult,
 )
@@ -52,6 +61,32 @@ def given_names(node):
     if isinstance(node, ast.ExceptHandler) and node.name:
         return [node.name]
     return []
+
+
+def own_methods():
+    return {part.name for file, node in nodes(ast.ClassDef) for part in node.body if isinstance(part, ast.FunctionDef)}
+
+
+def own_attributes():
+    return {node.attr for file, node in nodes(ast.Attribute) if isinstance(node.ctx, ast.Store)}
+
+
+def called(node):
+    """The name of what a call calls, or of the method."""
+    if not isinstance(node, ast.Call):
+        return None
+    return node.func.id if isinstance(node.func, ast.Name) else node.func.attr
+
+
+def iterated_at_once(tree):
+    """All parts of the code that stand where a loop or a builtin goes through them on the spot."""
+    found = []
+    for node in ast.walk(tree):
+        if isinstance(node, (ast.For, ast.comprehension)):
+            found.append(node.iter)
+        elif called(node) in ITERATING:
+            found += node.args
+    return found
 
 
 class Files(unittest.TestCase):
@@ -156,3 +191,42 @@ class Parts(unittest.TestCase):
                 if isinstance(sign, (ast.Is, ast.IsNot)):
                     self.assertIsInstance(right, ast.Constant, (file, node.lineno))
                     self.assertIn(right.value, (None, True, False), (file, node.lineno))
+
+    def test_gone_through_at_once(self):
+        for file, tree in trees():
+            at_once = iterated_at_once(tree)
+            for node in ast.walk(tree):
+                if called(node) in AT_ONCE or called(node) in VIEWS and isinstance(node.func, ast.Attribute):
+                    self.assertIn(node, at_once, (file, node.lineno))
+
+    def test_raised_on_the_spot(self):
+        for file, node in nodes(ast.Raise):
+            if node.exc is not None:
+                self.assertIsInstance(node.exc, ast.Call, (file, node.lineno))
+                self.assertIsInstance(node.exc.func, ast.Name, (file, node.lineno))
+
+    def test_no_lists_in_lists_at_module_level(self):
+        for file, tree in trees():
+            for node in tree.body:
+                if isinstance(node, ast.Assign):
+                    inner = [part for part in ast.walk(node.value) if isinstance(part, (ast.List, ast.Dict))]
+                    self.assertLessEqual(len(inner), 1, (file, node.lineno))
+                    self.assertEqual(inner, [node.value] if inner else [], (file, node.lineno))
+
+
+class Methods(unittest.TestCase):
+    def test_methods_and_attributes_have_unlike_names(self):
+        self.assertEqual(own_methods() & own_attributes(), set())
+
+    def test_own_names_are_no_names_of_plain_values(self):
+        self.assertEqual((own_methods() - DUNDERS) & VALUE_NAMES, set())
+        self.assertEqual(own_attributes() & VALUE_NAMES, set())
+
+    def test_methods_that_are_called(self):
+        for file, node in nodes(ast.Call):
+            if isinstance(node.func, ast.Attribute):
+                self.assertIn(node.func.attr, METHODS | own_methods(), (file, node.lineno))
+
+    def test_attributes_that_are_read(self):
+        for file, node in nodes(ast.Attribute):
+            self.assertIn(node.attr, METHODS | own_methods() | own_attributes(), (file, node.lineno))

@@ -3,78 +3,132 @@
 import copy
 import unittest
 
-from tests.samples import NETS, drawn_ways
-from tiehues.errors import TieError
+from tests.samples import NETS, drawn_pairs, drawn_ways, places_of, refusal
+from tiehues.crossings import best_lot, cross_hues, lot_bound
+from tiehues.forcer import next_way
+from tiehues.givers import Giver, shows
 from tiehues.lines import line_hues
 from tiehues.nets import clash, load, loads, look_net, ties_of, used
-
-ASKED = {
-    "look_net": lambda net, ways, hues: look_net(net),
-    "ties_of": lambda net, ways, hues: ties_of(net, ways[0]),
-    "loads": lambda net, ways, hues: loads(net, ways),
-    "load": lambda net, ways, hues: load(net, ways),
-    "clash": lambda net, ways, hues: clash(net, ways, hues),
-    "used": lambda net, ways, hues: used(hues),
-    "line_hues": lambda net, ways, hues: line_hues(net, ways),
-}
+from tiehues.trees import crossing_at, join_hues, tree_hues
 
 
-def samples():
+def asked_of_nets():
     for net in NETS:
-        ways = drawn_ways(net, 12, 5)
-        yield net, ways, list(range(12))
-        yield net, ways, [3, -1, 3]
-        yield net, ways + [(0, 0)], [5] * 13
-    yield ("tree", [0, 2, 1]), [(1, 0)], [2]
+        right = drawn_ways(net, 12, 5)
+        yield look_net, net
+        yield ties_of, net, right[0]
+        for ways in (right, right + [(0, 0)]):
+            yield loads, net, ways
+            yield load, net, ways
+            yield line_hues, net, ways
+            for hues in (list(range(12)), [3, -1, 3], [5] * 13):
+                yield clash, net, ways, hues
+                yield used, hues
+    yield look_net, ("tree", [0, 2, 1])
 
 
-def answer(asked, things):
-    try:
-        return asked(*things)
-    except TieError as refused:
-        return refused.__class__, getattr(refused, "at", None)
+def asked_of_lines():
+    for many in (2, 5, 60):
+        giver = Giver(("line", many))
+        hues = [giver.put(way) for way in drawn_ways(("line", many), 12, 6)]
+        told = [(giver.levels()[at], giver.own_tie(at), hue) for at, hue in enumerate(hues)]
+        for lines in (told, told[:5], told + [(1, 0, 0)], [(1, 0, 0)] * 12):
+            yield shows, ("line", many), giver.ways(), lines
+    giver = Giver(("line", 41))
+    while (way := next_way(giver.ways(), giver.hues())) is not None:
+        yield next_way, giver.ways(), giver.hues()
+        giver.put(way)
+    yield next_way, giver.ways(), giver.hues()
+    yield next_way, giver.ways()[::-1], giver.hues()
+    yield next_way, giver.ways(), giver.hues()[1:]
 
 
-def spoil(told):
-    if isinstance(told, tuple):
-        for part in told:
-            spoil(part)
-    elif isinstance(told, list):
+def asked_of_crossings():
+    for many in (3, 5, 12, 13):
+        for pairs in ([], drawn_pairs(many, 30, 7), drawn_pairs(many, 60, 8, alone=False), [(1, 0)]):
+            yield cross_hues, (many, pairs)
+            yield best_lot, (many, pairs)
+            for lot in ([0, 1, 2], [2, 1, 0]):
+                yield lot_bound, (many, pairs), lot
+    yield best_lot, (5, [(0, 1), (1, 2), (0, 2)] * 3)
+
+
+def asked_of_trees():
+    for net in NETS:
+        right = drawn_ways(net, 12, 9)
+        for ways in (right, right + [(0, 0)]):
+            yield tree_hues, net, ways
+            for place in (0, 1, places_of(net) - 1, -1):
+                yield crossing_at, net, ways, place
+        if net[0] == "tree":
+            found = [crossing_at(net, right, place)[0] for place in range(places_of(net))]
+            lists = [cross_hues(crossing) for crossing in found]
+            for told in (lists, lists[:-1], lists + [[]], [[0]] + lists[1:]):
+                yield join_hues, net, right, told
+
+
+def calls():
+    for asked in (asked_of_nets, asked_of_lines, asked_of_crossings, asked_of_trees):
+        for function, *things in asked():
+            yield function, copy.deepcopy(things)
+
+
+def answer(function, things):
+    refused = refusal(function, *things)
+    return function(*things) if refused is None else refused
+
+
+def lists_in(thing):
+    """All lists in a thing, each as often as it stands."""
+    if not isinstance(thing, (list, tuple)):
+        return []
+    return [thing] * isinstance(thing, list) + [found for part in thing for found in lists_in(part)]
+
+
+def spoil(thing):
+    for told in lists_in(thing):
         told.reverse()
         told.append(99)
 
 
 class Kept(unittest.TestCase):
     def test_nothing_handed_in_is_changed(self):
-        for name, asked in ASKED.items():
-            for things in samples():
-                before = copy.deepcopy(things)
-                answer(asked, things)
-                self.assertEqual(things, before, name)
+        for function, things in calls():
+            before = copy.deepcopy(things)
+            answer(function, things)
+            self.assertEqual(things, before, function.__name__)
 
     def test_told_lists_are_the_askers_own(self):
-        for name, asked in ASKED.items():
-            for things in samples():
-                before = copy.deepcopy(things)
-                told = answer(asked, things)
-                first = copy.deepcopy(told)
-                spoil(told)
-                self.assertEqual(things, before, name)
-                self.assertEqual(answer(asked, things), first, name)
+        for function, things in calls():
+            before = copy.deepcopy(things)
+            told = answer(function, things)
+            first = copy.deepcopy(told)
+            spoil(told)
+            self.assertEqual(things, before, function.__name__)
+            self.assertEqual(answer(function, things), first, function.__name__)
 
-    def test_changed_behind(self):
-        parents, ways = [0, 0, 1], [(3, 2), (0, 1)]
-        told = loads(("tree", parents), ways)
-        hues, tie = line_hues(("line", 4), ways)
-        parents[2] = 2
-        ways.append((0, 2))
-        ways[0] = (1, 0)
-        self.assertEqual(told, [2, 1, 1])
-        self.assertEqual(len(hues), 2)
-        self.assertIn(tie, (0, 2))
+    def test_told_lists_are_new_ones(self):
+        for function, things in calls():
+            told = answer(function, things)
+            again = answer(function, things)
+            places = [id(found) for found in lists_in((told, again, tuple(things)))]
+            self.assertEqual(len(places), len(set(places)), function.__name__)
+
+    def test_what_is_handed_in_may_change_behind(self):
+        for function, things in calls():
+            told = answer(function, things)
+            first = copy.deepcopy(told)
+            spoil(things)
+            self.assertEqual(told, first, function.__name__)
 
     def test_the_same_each_time(self):
-        for name, asked in ASKED.items():
-            for things in samples():
-                told = [answer(asked, copy.deepcopy(things)) for turn in range(3)]
-                self.assertEqual(told[1:], told[:1] * 2, name)
+        for function, things in calls():
+            told = [answer(function, copy.deepcopy(things)) for turn in range(3)]
+            self.assertEqual(told[1:], told[:1] * 2, function.__name__)
+
+    def test_both_answers_and_refusals_are_asked(self):
+        found = {}
+        for function, things in calls():
+            found.setdefault(function, set()).add(refusal(function, *things) is None)
+        for function, kinds in found.items():
+            self.assertEqual(kinds, {True} if function in (used, ties_of, shows) else {True, False}, function)

@@ -4,8 +4,10 @@ import unittest
 
 from tests.samples import NETS, WRONG_NETS
 from tiehues.errors import NoNet
+from tiehues.givers import Giver, shows
 from tiehues.lines import line_hues
 from tiehues.nets import clash, load, loads, look_net, ties_of
+from tiehues.trees import crossing_at, join_hues, tree_hues
 
 ASKING = {
     "ties_of": lambda net: ties_of(net, (0, 1)),
@@ -23,6 +25,17 @@ ASKING = {
     "line_hues": lambda net: line_hues(net, [(0, 1)]),
     "line_hues of none": lambda net: line_hues(net, []),
     "line_hues of no way": lambda net: line_hues(net, [(0, 0)]),
+    "Giver": Giver,
+    "shows": lambda net: shows(net, [(0, 1)], [(1, 0, 0)]),
+    "shows of no way": lambda net: shows(net, [(0, 0)], []),
+    "crossing_at": lambda net: crossing_at(net, [(0, 1)], 0),
+    "crossing_at of no way": lambda net: crossing_at(net, [(0, 0)], 0),
+    "crossing_at of no place": lambda net: crossing_at(net, [], -1),
+    "tree_hues": lambda net: tree_hues(net, [(0, 1)]),
+    "tree_hues of no way": lambda net: tree_hues(net, [(0, 0)]),
+    "join_hues": lambda net: join_hues(net, [(0, 1)], [[0], [0]]),
+    "join_hues of no way": lambda net: join_hues(net, [(0, 0)], [[0], [0]]),
+    "join_hues of no hues": lambda net: join_hues(net, [(0, 1)], []),
 }
 
 

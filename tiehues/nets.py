@@ -117,6 +117,11 @@ def have_common(ties, others):
     return any(tie in others for tie in ties)
 
 
+def met_hues(ties, rows, hues):
+    """The hues of the ways that have a common tie with these ties, told by the ties of each way."""
+    return [hue for row, hue in zip(rows, hues) if have_common(ties, row)]
+
+
 def clash(net, ways, hues):
     """None where the hues are right, else the first two ways, as (i, j), at which they are not."""
     lists = ties_of_each(net, ways)

@@ -1,0 +1,43 @@
+"""The document's interface: names and arguments, as far as they have been built."""
+
+import importlib
+import inspect
+import unittest
+
+FUNCTIONS = {
+    "nets": {
+        "look_net": ["net"], "ties_of": ["net", "way"], "loads": ["net", "ways"], "load": ["net", "ways"],
+        "clash": ["net", "ways", "hues"], "used": ["hues"],
+    },
+    "lines": {"line_hues": ["net", "ways"]},
+    "givers": {"Giver": ["net"], "shows": ["net", "ways", "lines"]},
+    "forcer": {"next_way": ["ways", "hues"]},
+    "crossings": {"cross_hues": ["crossing"], "lot_bound": ["crossing", "lot"], "best_lot": ["crossing"]},
+    "trees": {
+        "crossing_at": ["net", "ways", "place"], "tree_hues": ["net", "ways"], "join_hues": ["net", "ways", "lists"],
+    },
+}
+METHODS = {
+    ("givers", "Giver"): {
+        "put": ["self", "way"], "ways": ["self"], "hues": ["self"], "levels": ["self"],
+        "own_tie": ["self", "number"],
+    },
+}
+
+
+def arguments(function):
+    return list(inspect.signature(function).parameters)
+
+
+class Interface(unittest.TestCase):
+    def test_functions(self):
+        for file, names in FUNCTIONS.items():
+            module = importlib.import_module(f"tiehues.{file}")
+            for name, told in names.items():
+                self.assertEqual(arguments(getattr(module, name)), told, (file, name))
+
+    def test_methods_stand_in_the_class_itself(self):
+        for (file, name), methods in METHODS.items():
+            kind = getattr(importlib.import_module(f"tiehues.{file}"), name)
+            for method, told in methods.items():
+                self.assertEqual(arguments(vars(kind)[method]), told, (name, method))
