@@ -17,6 +17,12 @@ GREAT_NETS = [
 ]
 NETS = SMALL_NETS + GREAT_NETS
 
+# Ways that need a hue more than the load: five round a ring, and three at a place of a tree.
+RING = ("ring", 5)
+ROUND = [(k, (k + 2) % 5) for k in range(5)]
+STAR = ("tree", [0, 0, 0])
+SIDES = [(1, 2), (2, 3), (3, 1)]
+
 WRONG_NETS = [
     ("star", 5), ("", 5), ("Line", 5), ("star", [0]), ("", []),
     ("line", 1), ("line", 61), ("line", 0), ("line", -1), ("line", HUGE), ("line", -HUGE),
@@ -156,4 +162,35 @@ WRONG_CROSSINGS = [
     (2, [(0, 1), (0, 2)]), (2, [(2, 2)]), (3, [(-1, 1)]), (3, [(-1, -1)]), (3, [(-2, -1)]), (3, [(0, 1), (2, 1)]),
     (60, [(0, 60)]), (60, [(60, 60)]), (61, [(0, 1)]), (3, [(0, HUGE)]), (3, [(-HUGE, 0)]), (3, [(HUGE, HUGE)]),
     (3, [(0, 1)] * 61), (60, [(0, 0)] * 61), (13, [(0, 13)]), (3, [(0, 1)] * 59 + [(0, 3)]),
+]
+
+
+def nested(kind, deep, core):
+    for turn in range(deep):
+        core = kind([core])
+    return core
+
+
+def deep_case(deep):
+    thing = ()
+    for turn in range(deep):
+        thing = (0, [thing])
+    return thing
+
+
+# Things of other kinds, as a judge may be handed them: none is a case, a paper or what is told.
+ODD_THINGS = [
+    None, True, False, 0, 1, -1, HUGE, -HUGE, "", "none", "tie", "lot", "case", "ties", "turn", "hues", "()", (), [],
+    ((),), ([],), [()], [[]], (0,), [0], (None,), ("none",), ("case",), ("ties",), (True,), (0, ()), [0, []],
+    (True, []), (None, []), ("0", []), ((0, []), []), (0, [], []), ([], 0), ([0], []), (0, None), (0, 0), (0, True),
+    (0, "()"),
+    (-1, []), (HUGE, []), (-HUGE, []), (99, [()]), (0, [[]]), (0, [None]), (0, [True]), (0, [0]), ("case", (0, [])),
+    ("tie", None), ("tie", True), ("tie", -1), ("tie", HUGE), ("tie", "0"), ("lot", 0), ("lot", 0, 0), ("lot", 0, ()),
+    ("lot", None, [0, 1, 2]), ("lot", True, [0, 1, 2]), ("case", None), ("case", ()), ("case", [0, []]), ("turn", ()),
+    ("ties", 0), ("ties", 0, None), ("ties", True, 1), ("ties", -1, 0), ("ties", 0, HUGE), ("ties", 0, 1, 2),
+    ["ties", 0, 1], (0, (), ()), (0, None, None), (True, ("ties", 0, 1), ("ties", 0, 1)), ("none", "none"),
+    nested(tuple, 90, 0), nested(list, 90, None), nested(tuple, 90, ()), deep_case(45), (0, nested(list, 88, 0)),
+    [0] * 4999, (0,) * 4999, [()] * 4999, [[0]] * 2499, (0, [()] * 4990), (0, [(1, [()])] * 999),
+    ("lot", 0, [0] * 4990),
+    ("lot", 0, list(range(4990))), "x" * 4000, [[], ()] * 1600, ((0, []),) * 1600,
 ]

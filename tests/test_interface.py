@@ -16,6 +16,13 @@ FUNCTIONS = {
     "trees": {
         "crossing_at": ["net", "ways", "place"], "tree_hues": ["net", "ways"], "join_hues": ["net", "ways", "lists"],
     },
+    "cases": {"case_judged": ["net", "ways", "h", "case"], "case_of": ["net", "ways", "h"]},
+    "rings": {"ring_hues": ["net", "ways"]},
+    "fewest": {"fewest": ["net", "ways"], "fewest_judged": ["net", "ways", "told"]},
+    "turning": {
+        "turned": ["net", "ways", "turning"], "parted": ["net", "ways", "e", "f"],
+        "turn_judged": ["net", "ways", "m", "paper"], "least_load": ["net", "ways"], "short_turning": ["net", "ways"],
+    },
 }
 METHODS = {
     ("givers", "Giver"): {

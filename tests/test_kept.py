@@ -3,13 +3,17 @@
 import copy
 import unittest
 
-from tests.samples import NETS, drawn_pairs, drawn_ways, places_of, refusal
+from tests.samples import NETS, RING, ROUND, SIDES, STAR, drawn_pairs, drawn_ways, places_of, refusal
+from tiehues.cases import case_judged, case_of
 from tiehues.crossings import best_lot, cross_hues, lot_bound
+from tiehues.fewest import fewest, fewest_judged
 from tiehues.forcer import next_way
 from tiehues.givers import Giver, shows
 from tiehues.lines import line_hues
 from tiehues.nets import clash, load, loads, look_net, ties_of, used
+from tiehues.rings import ring_hues
 from tiehues.trees import crossing_at, join_hues, tree_hues
+from tiehues.turning import least_load, parted, short_turning, turn_judged, turned
 
 
 def asked_of_nets():
@@ -67,8 +71,48 @@ def asked_of_trees():
                 yield join_hues, net, right, told
 
 
+def asked_of_cases():
+    for net in NETS:
+        for ways in ([], drawn_ways(net, 6, 10), drawn_ways(net, 8, 11), [(0, 1)] * 13):
+            for h in (-1, 0, 1, 2, 3):
+                yield case_of, net, ways, h
+            yield case_judged, net, ways, 1, (0, [(1, [()])])
+            yield fewest, net, ways
+    for net, ways in ((RING, ROUND), (STAR, SIDES), (STAR, SIDES * 4)):
+        told = fewest(net, ways)
+        case = case_of(net, ways[:8], 2)
+        yield fewest, net, ways
+        yield case_of, net, ways[:8], 2
+        for things in (case, (0, [case]), list(case)):
+            yield case_judged, net, ways[:8], 2, things
+            yield fewest_judged, net, ways, told[:2] + (("case", things),)
+        for things in (told, told + ([],), told[:2] + ([told[2]],), list(told), (told[0], [told[1]], [])):
+            yield fewest_judged, net, ways, things
+            yield fewest_judged, net, ways + [(0, 0)], things
+
+
+def asked_of_rings():
+    for net in NETS:
+        right = drawn_ways(net, 7, 12)
+        for ways in ([], right, right * 3, [(0, 1), (1, 0)], [(0, 0)]):
+            yield ring_hues, net, ways
+            yield short_turning, net, ways
+            yield least_load, net, ways
+            for turning in ([0] * len(ways), [1] * len(ways), [0]):
+                yield turned, net, ways, turning
+            yield parted, net, ways, 0, 1
+            yield parted, net, ways, 0, -1
+        if net[0] == "ring":
+            paper = least_load(net, right)[2]
+            for thing in (paper, [paper, [[]]], (0, [paper], [paper])):
+                for m in (-1, 0, least_load(net, right)[0] - 1):
+                    yield turn_judged, net, right, m, thing
+
+
 def calls():
-    for asked in (asked_of_nets, asked_of_lines, asked_of_crossings, asked_of_trees):
+    for asked in (
+        asked_of_nets, asked_of_lines, asked_of_crossings, asked_of_trees, asked_of_cases, asked_of_rings,
+    ):
         for function, *things in asked():
             yield function, copy.deepcopy(things)
 

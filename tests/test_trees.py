@@ -4,8 +4,8 @@ import itertools
 import unittest
 
 from tests.samples import (
-    HUGE, NETS, WRONG_NETS, all_ways, counted_loads, drawn_pairs, drawn_ways, ends_of_ties, first_clash, places_of,
-    refusal, right_pairs, walked_ties, wrong_ways,
+    HUGE, NETS, STAR, WRONG_NETS, all_ways, counted_loads, drawn_pairs, drawn_ways, ends_of_ties, first_clash,
+    places_of, refusal, right_pairs, walked_ties, wrong_ways,
 )
 from tiehues.crossings import best_lot, cross_hues
 from tiehues.trees import crossing_at, join_hues, tree_hues
@@ -14,7 +14,6 @@ TREES = [net for net in NETS if net[0] == "tree"]
 SMALL_TREES = [net for net in TREES if places_of(net) < 8]
 OTHERS = [net for net in NETS if net[0] != "tree"]
 TREE = ("tree", [0, 0, 1, 1, 2, 5])
-STAR = ("tree", [0, 0, 0])
 
 
 def looked_at(net, ways, place):

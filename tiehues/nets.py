@@ -1,6 +1,6 @@
 """Nets, the ties that ways lie on, and whether hues are right."""
 
-from tiehues.errors import NoNet, NoWay, OtherNet
+from tiehues.errors import NoNet, NoWay, OtherNet, TooMany
 
 LEAST_PLACES = {"line": 2, "ring": 3}
 MOST_PLACES = 60
@@ -96,6 +96,14 @@ def ties_of_each(net, ways):
         if not is_way(net, way):
             raise NoWay(at)
     return [way_ties(net, way) for way in ways]
+
+
+def ties_of_few(net, ways, most):
+    """For each way the ties of it, refused where there are more ways than so many."""
+    rows = ties_of_each(net, ways)
+    if len(rows) > most:
+        raise TooMany(f"no more than {most} ways")
+    return rows
 
 
 def loads(net, ways):
