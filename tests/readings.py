@@ -5,8 +5,6 @@ import itertools
 
 from tests.samples import ends_of_ties, walked_ties
 
-KINDS = (int, list, tuple)
-
 
 def is_int(thing):
     return type(thing) is int
@@ -142,6 +140,27 @@ def judged_fewest(net, ways, told):
         right = h >= 1 and right_case(net, ways, h - 1, paper[1])
     else:
         right = False
+    return None if right else ("paper",)
+
+
+def judged_turned(net, ways, told):
+    """Point 25 word by word."""
+    lays = turned_rows(net, ways)
+    if type(told) is not tuple or len(told) != 4 or not is_int(told[0]):
+        return ("turning",)
+    h, turning, hues, paper = told
+    if not are_ints(turning) or len(turning) != len(ways) or not set(turning) <= {0, 1}:
+        return ("turning",)
+    if not are_right_hues([lay[turn] for lay, turn in zip(lays, turning)], h, hues):
+        return ("hues",)
+    right = False
+    if type(paper) is tuple and len(paper) == 1 and type(paper[0]) is str and paper[0] == "none":
+        right = len(ways) == 0
+    elif type(paper) is tuple and len(paper) == 2 and type(paper[0]) is str and h >= 1:
+        if paper[0] == "turn":
+            right = right_turn_paper(net, ways, h - 1, paper[1])
+        elif paper[0] == "case":
+            right = is_case(lays, h - 1, paper[1])
     return None if right else ("paper",)
 
 

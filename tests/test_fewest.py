@@ -182,6 +182,11 @@ class Papers(unittest.TestCase):
             for tie in (-1, ties, 99):
                 self.check(net, [], (0, [], ("tie", tie)), ("paper",))
 
+    def test_a_lot_without_ways(self):
+        self.check(STAR, [], (0, [], ("lot", 0, [0, 1, 2])), None)
+        for place, lot in ((0, [0, 1]), (0, []), (1, [0, 1, 2]), (0, [1, 2, 3])):
+            self.check(STAR, [], (0, [], ("lot", place, lot)), ("paper",))
+
     def test_lot(self):
         told = (3, [0, 1, 2])
         self.check(STAR, SIDES, told + (("lot", 0, [0, 1, 2]),), None)

@@ -2,6 +2,7 @@
 
 import ast
 import builtins
+import functools
 import pathlib
 import re
 import unittest
@@ -27,7 +28,8 @@ DUNDERS = {"__init__", "__eq__", "__repr__", "__str__", "__len__"}
 METHODS = set(
     "append clear copy count endswith extend find get index insert isalnum isalpha isdigit islower isspace isupper"
     " items join keys ljust lower lstrip partition pop remove replace reverse rfind rjust rpartition rsplit rstrip"
-    " setdefault split splitlines startswith strip update upper values zfill bit_length add discard sort".split()
+    " setdefault split splitlines startswith strip update upper values zfill bit_length add discard sort"
+    " isascii".split()
 )
 VALUE_NAMES = {name for kind in (str, int, list, dict, set, bytes, tuple) for name in dir(kind)}
 AT_ONCE = {"zip", "enumerate", "reversed", "range"}
@@ -42,6 +44,7 @@ def sources():
     return sorted(PACKAGE.glob("*.py"))
 
 
+@functools.cache
 def trees():
     return [(path.name, ast.parse(path.read_text())) for path in sources()]
 
@@ -63,10 +66,12 @@ def given_names(node):
     return []
 
 
+@functools.cache
 def own_methods():
     return {part.name for file, node in nodes(ast.ClassDef) for part in node.body if isinstance(part, ast.FunctionDef)}
 
 
+@functools.cache
 def own_attributes():
     return {node.attr for file, node in nodes(ast.Attribute) if isinstance(node.ctx, ast.Store)}
 

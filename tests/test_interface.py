@@ -1,4 +1,4 @@
-"""The document's interface: names and arguments, as far as they have been built."""
+"""The document's interface: names and arguments."""
 
 import importlib
 import inspect
@@ -23,12 +23,17 @@ FUNCTIONS = {
         "turned": ["net", "ways", "turning"], "parted": ["net", "ways", "e", "f"],
         "turn_judged": ["net", "ways", "m", "paper"], "least_load": ["net", "ways"], "short_turning": ["net", "ways"],
     },
+    "both": {"turned_hues": ["net", "ways"], "turned_judged": ["net", "ways", "told"]},
+    "texts": {"net_text": ["net", "ways", "hues"], "read_net": ["text"]},
+    "desk": {"Desk": []},
+    "papers": {"told_words": ["told"], "told_of": ["text"]},
 }
 METHODS = {
     ("givers", "Giver"): {
         "put": ["self", "way"], "ways": ["self"], "hues": ["self"], "levels": ["self"],
         "own_tie": ["self", "number"],
     },
+    ("desk", "Desk"): {"say": ["self", "row"]},
 }
 
 

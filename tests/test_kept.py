@@ -4,6 +4,7 @@ import copy
 import unittest
 
 from tests.samples import NETS, RING, ROUND, SIDES, STAR, drawn_pairs, drawn_ways, places_of, refusal
+from tiehues.both import turned_hues, turned_judged
 from tiehues.cases import case_judged, case_of
 from tiehues.crossings import best_lot, cross_hues, lot_bound
 from tiehues.fewest import fewest, fewest_judged
@@ -11,7 +12,9 @@ from tiehues.forcer import next_way
 from tiehues.givers import Giver, shows
 from tiehues.lines import line_hues
 from tiehues.nets import clash, load, loads, look_net, ties_of, used
+from tiehues.papers import told_of, told_words
 from tiehues.rings import ring_hues
+from tiehues.texts import net_text, read_net
 from tiehues.trees import crossing_at, join_hues, tree_hues
 from tiehues.turning import least_load, parted, short_turning, turn_judged, turned
 
@@ -109,9 +112,41 @@ def asked_of_rings():
                     yield turn_judged, net, right, m, thing
 
 
+def asked_of_both():
+    for net in NETS:
+        for ways in ([], drawn_ways(net, 5, 13), [(0, 1)] * 8, [(0, 0)]):
+            yield turned_hues, net, ways
+            yield turned_judged, net, ways, (0, [], [], ("none",))
+    for net, ways in ((RING, ROUND), (("ring", 4), [(0, 2), (1, 3), (0, 2)]), (("ring", 3), [])):
+        told = turned_hues(net, ways)
+        yield turned_hues, net, ways
+        for thing in (told, list(told), told[:3] + ([told[3]],), (told[0], [told[1]], [], []), told + ([],)):
+            yield turned_judged, net, ways, thing
+
+
+def asked_of_texts():
+    for net in NETS:
+        for ways in ([], drawn_ways(net, 6, 14), [(0, 0)]):
+            for hues in (None, list(range(len(ways))), [-1]):
+                yield net_text, net, ways, hues
+        ways = drawn_ways(net, 6, 15)
+        for text in (net_text(net, ways, None), net_text(net, ways, [5, 4, 3, 2, 1, 0]), net_text(net, [], []), "",
+                     "x"):
+            yield read_net, text
+    for net, ways in ((RING, ROUND), (STAR, SIDES), (STAR, [])):
+        for told in (fewest(net, ways), turned_hues(RING, ROUND), (0, [], [3], ("lot", 0, [1]))):
+            yield told_words, told
+            yield told_words, list(told)
+            yield told_words, told[:-1] + ([told[-1]],)
+            yield told_of, told_words(told)
+            yield told_of, told_words(told) + " "
+
+
 def calls():
     for asked in (
         asked_of_nets, asked_of_lines, asked_of_crossings, asked_of_trees, asked_of_cases, asked_of_rings,
+        asked_of_both,
+        asked_of_texts,
     ):
         for function, *things in asked():
             yield function, copy.deepcopy(things)
@@ -164,6 +199,15 @@ class Kept(unittest.TestCase):
             first = copy.deepcopy(told)
             spoil(things)
             self.assertEqual(told, first, function.__name__)
+
+    def test_nothing_asked_later_changes_it(self):
+        told = []
+        for function, things in calls():
+            told.append((function, answer(function, things)))
+        kept = copy.deepcopy(told)
+        for function, things in calls():
+            spoil(answer(function, things))
+        self.assertEqual(told, kept)
 
     def test_the_same_each_time(self):
         for function, things in calls():

@@ -5,8 +5,11 @@ import time
 import unittest
 
 from tests.samples import ODD_THINGS, drawn_ways
+from tiehues.both import turned_hues, turned_judged
 from tiehues.cases import case_judged, case_of
+from tiehues.desk import Desk
 from tiehues.fewest import fewest, fewest_judged
+from tiehues.papers import told_of, told_words
 from tiehues.rings import ring_hues
 from tiehues.turning import least_load, short_turning, turn_judged
 
@@ -63,6 +66,36 @@ class Soon(unittest.TestCase):
                              [(k % half, k % half + half) for k in range(count)], drawn_ways(("ring", many), count, 1)):
                     heaviest, turning, paper = self.soon(least_load, ("ring", many), ways)
                     self.assertIs(self.soon(turn_judged, ("ring", many), ways, heaviest - 1, paper), True)
+
+    def test_turned_and_hued(self):
+        for many in (3, 5, 8, 10):
+            half = many // 2
+            for ways in ([(k % many, (k + half) % many) for k in range(6)], [(0, half)] * 6, [(0, 1), (1, 0)] * 3,
+                         [(k % half, k % half + half) for k in range(6)], drawn_ways(("ring", many), 6, 1)):
+                told = self.soon(turned_hues, ("ring", many), ways)
+                self.assertIsNone(self.soon(turned_judged, ("ring", many), ways, told))
+
+    def test_seven_ways(self):
+        for many in (7, 10, 14, 60):
+            half = many // 2
+            for ways in ([(k % many, (k + half) % many) for k in range(7)], drawn_ways(("ring", many), 7, 2)):
+                self.soon(turned_hues, ("ring", many), ways)
+
+    def test_words(self):
+        for net, ways in LONG:
+            told = fewest(net, ways)
+            case = case_of(net, ways, told[0] - 1)
+            for thing in (told, told[:2] + (("case", case),)):
+                self.assertEqual(self.soon(told_of, self.soon(told_words, thing)), thing)
+        for thing in (told, (0, list(range(4990)), ("none",)), (0, [], ("case", (0, [()] * 4990)))):
+            self.assertEqual(self.soon(told_of, self.soon(told_words, thing)), thing)
+
+    def test_a_desk(self):
+        desk = Desk()
+        for row in ["line a 60"] + ["way a 0 59", "way a 59 0"] * 20 + ["back a"] * 40 + ["way a 0 59"] * 12:
+            self.soon(desk.say, row)
+        for row in ("fewest a", "best a", "given a", "load a", "show a", "names"):
+            self.soon(desk.say, row)
 
     def test_forty_ways(self):
         for many in (3, 20, 60):

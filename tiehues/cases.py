@@ -3,7 +3,7 @@
 from tiehues.errors import NoNumber
 from tiehues.nets import is_whole, ties_of_few
 
-MOST_WAYS = 12
+MOST_IN_CASES = 12
 
 
 def mask_of(ties):
@@ -100,14 +100,14 @@ def look_number(number):
 
 def case_judged(net, ways, h, case):
     """Whether a case is right for h hues."""
-    rows = ties_of_few(net, ways, MOST_WAYS)
+    rows = ties_of_few(net, ways, MOST_IN_CASES)
     look_number(h)
     return is_right_case(plain_table(rows), h, {}, case)
 
 
 def case_of(net, ways, h):
     """A right case for h hues, or None where they are enough."""
-    rows = ties_of_few(net, ways, MOST_WAYS)
+    rows = ties_of_few(net, ways, MOST_IN_CASES)
     look_number(h)
     found, case = given_or_case(plain_table(rows), h, {})
     return case

@@ -1,8 +1,8 @@
 """The fewest hues on any net, with a paper that shows why no fewer do, and the judge of both."""
 
-from tiehues.cases import MOST_WAYS, given_or_case, is_right_case, plain_table
+from tiehues.cases import MOST_IN_CASES, given_or_case, is_right_case, plain_table
 from tiehues.crossings import best_lot, bound_of, is_lot
-from tiehues.nets import clash, count_places, count_ties, is_place, is_whole, loads, ties_of_few, used
+from tiehues.nets import clash, count_places, is_place, is_tie, is_whole, loads, ties_of_few, used
 from tiehues.trees import meeting_at
 
 
@@ -20,9 +20,7 @@ def are_so_many_hues(net, ways, h, hues):
 
 def is_right_tie(net, rows, h, tie):
     """Whether a thing is a tie on which h ways lie, told by the ties of each way."""
-    if not is_whole(tie) or not 0 <= tie < count_ties(net):
-        return False
-    return len([row for row in rows if tie in row]) == h
+    return is_tie(net, tie) and len([row for row in rows if tie in row]) == h
 
 
 def is_right_lot(net, rows, h, place, lot):
@@ -51,7 +49,7 @@ def shows_fewest(net, rows, h, paper):
 
 def fewest_judged(net, ways, told):
     """None where a number, hues and a paper are right, else the first of the two that is not."""
-    rows = ties_of_few(net, ways, MOST_WAYS)
+    rows = ties_of_few(net, ways, MOST_IN_CASES)
     if not isinstance(told, tuple) or len(told) != 3:
         return ("hues",)
     h, hues, paper = told
@@ -85,7 +83,7 @@ def paper_of(net, rows, counts, h, case):
 
 def fewest(net, ways):
     """The fewest hues: their number, right hues, and a paper that shows why no fewer do."""
-    rows = ties_of_few(net, ways, MOST_WAYS)
+    rows = ties_of_few(net, ways, MOST_IN_CASES)
     counts = loads(net, ways)
     h = max(counts) - 1
     found = case = last = None

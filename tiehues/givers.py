@@ -1,9 +1,7 @@
 """Ways on a line that come one by one and get their hues for good, and what shows that few hues are used."""
 
 from tiehues.errors import NoWay, TooMany
-from tiehues.nets import look_kind, met_hues, ties_of, ties_of_each
-
-MOST_WAYS = 40
+from tiehues.nets import MOST_WAYS, look_kind, met_hues, ties_of, ties_of_each
 
 
 def levels_on(ties, rows, levels):

@@ -4,6 +4,7 @@ from tiehues.errors import NoNet, NoWay, OtherNet, TooMany
 
 LEAST_PLACES = {"line": 2, "ring": 3}
 MOST_PLACES = 60
+MOST_WAYS = 40
 
 
 def is_whole(x):
@@ -48,6 +49,10 @@ def count_ties(net):
 
 def is_place(net, x):
     return is_whole(x) and 0 <= x < count_places(net)
+
+
+def is_tie(net, x):
+    return is_whole(x) and 0 <= x < count_ties(net)
 
 
 def is_way(net, way):

@@ -2,7 +2,7 @@
 
 from tiehues.cases import look_number
 from tiehues.errors import NoTie, NoTurning
-from tiehues.nets import count_ties, is_whole, look_kind, ties_of_each, ties_of_few
+from tiehues.nets import count_ties, is_tie, is_whole, look_kind, ties_of_each, ties_of_few
 
 MOST_TURNED = 14
 
@@ -38,10 +38,6 @@ def turned(net, ways, turning):
     return turn_ways(ways, turning)
 
 
-def is_tie(many, x):
-    return is_whole(x) and 0 <= x < many
-
-
 def parts(row, e, f):
     """Whether a way with these ties lies on just one of two ties."""
     return (e in row) != (f in row)
@@ -50,7 +46,7 @@ def parts(row, e, f):
 def parted(net, ways, e, f):
     """The numbers of the ways that two ties part."""
     rows = ring_rows(net, ways)
-    if not is_tie(count_ties(net), e) or not is_tie(count_ties(net), f):
+    if not is_tie(net, e) or not is_tie(net, f):
         raise NoTie("the ring has no such tie")
     return [number for number, row in enumerate(rows) if parts(row, e, f)]
 
@@ -66,25 +62,25 @@ def shown_load(rows, settled, e, f):
     return settled_load(rows, settled, e) + settled_load(rows, settled, f) + len(others)
 
 
-def is_right_paper(many, rows, m, settled, paper):
-    """Whether a turn paper is right on a ring of so many ties for ways of which some are settled."""
+def is_right_paper(net, rows, m, settled, paper):
+    """Whether a turn paper is right for the bound m and ways, told by their ties, of which some are settled."""
     if not isinstance(paper, tuple) or len(paper) != 3:
         return False
     first, one, other = paper
     if first == "ties":
-        return is_tie(many, one) and is_tie(many, other) and shown_load(rows, settled, one, other) > 2 * m
+        return is_tie(net, one) and is_tie(net, other) and shown_load(rows, settled, one, other) > 2 * m
     if not is_whole(first) or not 0 <= first < len(rows) or first in settled:
         return False
-    if not is_right_paper(many, rows, m, {**settled, first: 0}, one):
+    if not is_right_paper(net, rows, m, {**settled, first: 0}, one):
         return False
-    return is_right_paper(many, rows, m, {**settled, first: 1}, other)
+    return is_right_paper(net, rows, m, {**settled, first: 1}, other)
 
 
 def turn_judged(net, ways, m, paper):
     """Whether a turn paper is right for the bound m."""
     rows = few_ring_rows(net, ways, MOST_TURNED)
     look_number(m)
-    return is_right_paper(count_ties(net), rows, m, {}, paper)
+    return is_right_paper(net, rows, m, {}, paper)
 
 
 def telling_pairs(many, rows):
